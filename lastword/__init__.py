@@ -1,0 +1,1 @@
+"""Lastword: boxes that are kept as long as somebody holds them."""
