@@ -2,7 +2,7 @@
 
 from lastword.errors import AlreadyThere, Crowded, NoBox, NoField, NoGuard, NoSlot, NotThere
 from lastword.sweeping import sweep
-from lastword.things import box_name, box_thing
+from lastword.things import box_name, box_thing, renamed
 
 GUARDS = 4
 FIXED_SIZES = {"weak": 1, "pair": 2}
@@ -20,13 +20,8 @@ class House:
 
     def make(self, kind, size=0, slot=0):
         self.check_slot(slot)
-        if self.is_full():
-            sweep(self)
-        if self.is_full():
-            raise Crowded("there is no room for one box more")
-        name = self.build(kind, size)
-        self.slots[slot] = box_thing(name)
-        return name
+        self.make_room(1)
+        return self.build([(kind, [None] * FIXED_SIZES.get(kind, size))], slot)
 
     def names(self):
         return sorted(self.kinds)
@@ -100,14 +95,23 @@ class House:
         self.check_guard(guard)
         return list(self.told[guard])
 
-    def is_full(self):
-        return len(self.kinds) >= self.room
+    def has_room(self, count):
+        return len(self.kinds) + count <= self.room
 
-    def build(self, kind, size):
-        self.last_name += 1
-        self.kinds[self.last_name] = kind
-        self.fields[self.last_name] = [None] * FIXED_SIZES.get(kind, size)
-        return self.last_name
+    def make_room(self, count, besides=None):
+        if not self.has_room(count):
+            sweep(self, besides)
+
+    def build(self, draft, slot):
+        if not self.has_room(len(draft)):
+            raise Crowded("there is no room for so many boxes")
+        new_names = [self.last_name + 1 + place for place in range(len(draft))]
+        for name, row in zip(new_names, draft):
+            self.kinds[name] = row[0]
+            self.fields[name] = [renamed(thing, new_names) for thing in row[1]]
+        self.last_name = new_names[-1]
+        self.slots[slot] = box_thing(new_names[0])
+        return new_names[0]
 
     def tell(self, guard, name):
         self.queues[guard].remove(name)
